@@ -244,13 +244,10 @@ func TestShapeKeys(t *testing.T) {
 	}
 }
 
-// P18.3: all cells of the capacities 0 to 3 whose links and USED are from one below to one above what may be.
+// P18.3: all cells of the capacities 0 to 3 whose links and USED are from one below to one above what may be, with as many different keys as there are nodes.
 func TestShapeOfAllCells(t *testing.T) {
 	for most := range 4 {
 		low, high := int64(-1), int64(most)+1
-		if most == 3 {
-			low = 0
-		}
 		cells := make([]int64, 3+2*most)
 		yes := 0
 		var fill func(at int)
